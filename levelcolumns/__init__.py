@@ -1,0 +1,1 @@
+"""Levelcolumns: nested records kept as columns with levels."""
