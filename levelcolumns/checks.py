@@ -17,8 +17,15 @@ def check_leaf(schema, leaf):
 
 def check_leaves(schema, leaves):
     """InvalidLeaf unless leaves, any object, is an ascending list of one or more leaves."""
-    if type(leaves) != list or leaves == []:
-        raise InvalidLeaf("leaves is no list of one or more leaves")
+    check_any_leaves(schema, leaves)
+    if leaves == []:
+        raise InvalidLeaf("leaves has no leaf")
+
+
+def check_any_leaves(schema, leaves):
+    """InvalidLeaf unless leaves, any object, is an ascending list of leaves, perhaps empty."""
+    if type(leaves) != list:
+        raise InvalidLeaf("leaves is no list")
     below = -1
     for leaf in leaves:
         check_leaf(schema, leaf)

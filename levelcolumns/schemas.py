@@ -11,7 +11,8 @@ class Schema:
 
     For the other files of the package it keeps, by the numbers of the nodes,
     their kinds, the node above each (-1 above the first), its name in the record
-    above it (None elsewhere), the nodes directly below it, and the leaves' nodes.
+    above it (None elsewhere), the nodes directly below it, the leaves at or below
+    it, its k and c, and by the numbers of the leaves their nodes.
     """
 
     def __init__(self, text):
@@ -23,6 +24,8 @@ class Schema:
         self.names = tuple(reader.names)
         self.children = tuple([tuple(below) for below in reader.children])
         self.nodes_of_leaves = tuple([node for node, kind in enumerate(reader.kinds) if kind == "value"])
+        self.leaves_of_nodes = tuple([_leaves_from(self, node) for node in range(len(reader.kinds))])
+        self.levels = tuple([_count_levels(self, node) for node in range(len(reader.kinds))])
 
     @property
     def text(self):
@@ -107,9 +110,32 @@ def open_line_to(schema, node):
     return [above for above in line_to(schema, node) if schema.node_kinds[above] in SIGN_IN_WAY]
 
 
+def levels_of(schema, node):
+    """k and c of a node, or of the table: how many open nodes and how many lists its way has."""
+    if node < 0:
+        return 0, 0
+    return schema.levels[node]
+
+
+def leaves_below(schema, node):
+    """The leaves at or below a node, or below the table."""
+    if node < 0:
+        return tuple(range(len(schema)))
+    return schema.leaves_of_nodes[node]
+
+
 def kept_nodes(schema, leaves):
     """The nodes with one of the leaves at or below them, as the keys of a dict."""
     return {node: True for leaf in leaves for node in line_to(schema, schema.nodes_of_leaves[leaf])}
+
+
+def _leaves_from(schema, node):
+    return tuple([leaf for leaf, place in enumerate(schema.nodes_of_leaves) if node in line_to(schema, place)])
+
+
+def _count_levels(schema, node):
+    line = open_line_to(schema, node)
+    return len(line), len([above for above in line if schema.node_kinds[above] == "list"])
 
 
 def _cut_text(schema, node, kept):

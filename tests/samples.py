@@ -128,3 +128,109 @@ def cut_document(tree, document):
     if tree[0] == "[":
         return [cut_document(tree[1], inner) for inner in document]
     return {name: cut_document(below, document[name]) for name, below in tree[1]}
+
+
+def steps_to(tree, leaf):
+    """The steps from the top down to a leaf: "?", "[" or the name of a field."""
+    found = []
+
+    def walk(part, steps):
+        if part[0] == "v":
+            found.append(steps)
+        elif part[0] == "{":
+            for name, below in part[1]:
+                walk(below, steps + [name])
+        else:
+            walk(part[1], steps + [part[0]])
+
+    walk(tree, [])
+    return found[leaf]
+
+
+def ends_in(steps, part):
+    """The ends below a part, each with its place at every open step (None where it does not go on)."""
+    if not steps:
+        return [([], part)]
+    if steps[0] not in "?[":
+        return ends_in(steps[1:], part[steps[0]])
+    if not part:
+        return [([None], None)]
+    return [([at] + places, value) for at, inner in enumerate(part) for places, value in ends_in(steps[1:], inner)]
+
+
+def column_in(tree, leaf, table):
+    """The column of a leaf, by comparing the places of each end with those of the end before."""
+    steps = steps_to(tree, leaf)
+    signs = [step for step in steps if step in ("?", "[")]
+    column = []
+    for document in table:
+        before = None
+        for places, value in ends_in(steps, document):
+            level = 0
+            if before is not None:
+                differ = min(at for at, (one, other) in enumerate(zip(places, before)) if one != other)
+                level = signs[:differ + 1].count("[")
+            column.append((level, len(places) - places.count(None), value))
+            before = places
+    return column
+
+
+def columns_in(tree, table):
+    return [column_in(tree, leaf, table) for leaf in range(len(leaves_of(tree)))]
+
+
+def prefix_in(tree, column, node):
+    way = way_in(tree, node)
+    return [(level, min(deep, len(way))) for level, deep, _ in column if level <= way.count("l")]
+
+
+def fit_in(tree, columns, leaf, second):
+    node = meeting_in(tree, leaf, second)
+    return prefix_in(tree, columns[leaf], node) == prefix_in(tree, columns[second], node)
+
+
+def redrawn(rng, tree, part):
+    """A document with some parts drawn once more."""
+    if rng.random() < 0.1:
+        return random_document(rng, tree)
+    if tree[0] == "v":
+        return part
+    if tree[0] == "?":
+        return tuple(redrawn(rng, tree[1], inner) for inner in part)
+    if tree[0] == "[":
+        return [redrawn(rng, tree[1], inner) for inner in part]
+    return {name: redrawn(rng, below, part[name]) for name, below in tree[1]}
+
+
+def mixed_columns(rng, tree, documents=2, tables=3):
+    """A column for each leaf, each of one of a few tables that are not very different."""
+    table = [random_document(rng, tree) for _ in range(documents)]
+    choice = [table] + [[redrawn(rng, tree, part) for part in table] for _ in range(tables - 1)]
+    return [column_in(tree, leaf, rng.choice(choice)) for leaf in range(len(leaves_of(tree)))]
+
+
+def tree_of(text):
+    """The tree of a schema's text."""
+    at = [0]
+
+    def walk():
+        sign = text[at[0]]
+        at[0] += 1
+        if sign == "v":
+            return ("v",)
+        if sign == "?":
+            return ("?", walk())
+        if sign == "[":
+            below = walk()
+            at[0] += 1
+            return ("[", below)
+        fields = []
+        while text[at[0] - 1] != "}":
+            colon = text.index(":", at[0])
+            name = text[at[0]:colon]
+            at[0] = colon + 1
+            fields.append((name, walk()))
+            at[0] += 1
+        return ("{", fields)
+
+    return walk()

@@ -10,6 +10,7 @@ from levelcolumns.errors import InvalidLeaf, InvalidTable
 from levelcolumns.schemas import Schema, cut
 from tests.samples import (DEEP, EXAMPLE, OTHER_OBJECTS, cut_document, cut_tree, random_document, random_trees,
                            text_of)
+from tests.tools import key_orders, lists_and_dicts
 
 FIRST = {"name": 1, "tags": [], "at": ()}
 SECOND = {"name": 2, "tags": [1, 2], "at": ({"x": 5, "y": [7]},)}
@@ -44,26 +45,6 @@ NO_DOCUMENTS = {
               {"name": 1, "tags": [], "at": ({"x": 5, "y": [7], "z": 1},)}, [1, [], ()],
               {"name": 1, "tags": [], "at": ({"x": 5, "y": [True]},)}, {"name": 1, "tags": [], "at": {"x": 5, "y": []}},
               {"name": 1, "tags": [], "at": ({"x": 5, "y": []}, {"x": 5, "y": []})}]}
-
-
-def lists_and_dicts(thing):
-    """All lists and dicts within an object, itself included."""
-    found = [thing] if isinstance(thing, (list, dict)) else []
-    if isinstance(thing, dict):
-        thing = list(thing.values())
-    if isinstance(thing, (list, tuple)):
-        for inner in thing:
-            found.extend(lists_and_dicts(inner))
-    return found
-
-
-def key_orders(thing):
-    """The same object with each dict as the list of its items, to tell the sequence of its names."""
-    if isinstance(thing, dict):
-        return ["dict"] + [(name, key_orders(part)) for name, part in thing.items()]
-    if isinstance(thing, (list, tuple)):
-        return [type(thing).__name__] + [key_orders(part) for part in thing]
-    return thing
 
 
 class TableFault(unittest.TestCase):
