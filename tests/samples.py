@@ -234,3 +234,155 @@ def tree_of(text):
         return ("{", fields)
 
     return walk()
+
+
+def steps_above(tree, node):
+    """The steps from the top down to a node, the node itself not among them."""
+    found = []
+
+    def walk(part, steps):
+        found.append(steps)
+        if part[0] in "?[":
+            walk(part[1], steps + [part[0]])
+        if part[0] == "{":
+            for name, below in part[1]:
+                walk(below, steps + [name])
+
+    walk(tree, [])
+    return found[node]
+
+
+def reached(steps, part):
+    """The parts that stand at the end of the steps, in order."""
+    if not steps:
+        return [part]
+    if steps[0] not in "?[":
+        return reached(steps[1:], part[steps[0]])
+    return [found for inner in part for found in reached(steps[1:], inner)]
+
+
+def parts_at(tree, node, table):
+    """What stands at a node in all documents, in order; the documents for the table."""
+    if node == -1:
+        return list(table)
+    return [found for part in table for found in reached(steps_above(tree, node), part)]
+
+
+def pieces_at(tree, node, table):
+    """The single pieces that a test is asked of: the documents, or what stands in the lists of a node."""
+    if node == -1:
+        return list(table)
+    return [piece for part in parts_at(tree, node, table) for piece in part]
+
+
+def holds(tree, node, test, piece):
+    """Whether a test holds for a document, or for what stands in a list."""
+    if test[0] == "not":
+        return not holds(tree, node, test[1], piece)
+    if test[0] == "both":
+        return holds(tree, node, test[1], piece) and holds(tree, node, test[2], piece)
+    if test[0] == "either":
+        return holds(tree, node, test[1], piece) or holds(tree, node, test[2], piece)
+    word, place, sign, number = test
+    steps = steps_above(tree, place)
+    if node != -1:
+        steps = steps[len(steps_above(tree, node)) + 1:]
+    answers = [{"<": value < number, "=": value == number, ">": value > number}[sign]
+               for value in reached(steps, piece)]
+    return True in answers if word == "some" else False not in answers
+
+
+def with_bits(tree, node, table, bits):
+    """The table in which just the pieces with True stay."""
+    stays = iter(bits)
+    if node == -1:
+        return [part for part in table if next(stays)]
+
+    def keep(steps, part):
+        if not steps:
+            return [piece for piece in part if next(stays)]
+        if steps[0] not in "?[":
+            return dict(part, **{steps[0]: keep(steps[1:], part[steps[0]])})
+        return type(part)([keep(steps[1:], inner) for inner in part])
+
+    return [keep(steps_above(tree, node), part) for part in table]
+
+
+def ordered(tree, part):
+    """The part with the names in the order of the tree."""
+    if tree[0] == "v":
+        return part
+    if tree[0] in "?[":
+        return type(part)(ordered(tree[1], inner) for inner in part)
+    return {name: ordered(below, part[name]) for name, below in tree[1]}
+
+
+def filter_nodes(tree):
+    """The table and all lists."""
+    return [-1] + [node for node, (sign, _) in enumerate(nodes_of(tree)) if sign == "["]
+
+
+def value_nodes_under(tree, node):
+    found = nodes_of(tree)
+    return [place for place in leaves_of(tree) if node == -1 or node in found[place][1]]
+
+
+def random_test(rng, tree, node, deep=4):
+    """A test below a node."""
+    word = rng.choice(["some", "all", "some", "all", "not", "both", "either"]) if deep > 1 else "some"
+    if word in ("some", "all"):
+        return word, rng.choice(value_nodes_under(tree, node)), rng.choice("<=>"), rng.choice([-1, 0, 1, 7, 8])
+    many = 1 if word == "not" else 2
+    return (word,) + tuple(random_test(rng, tree, node, deep - 1) for _ in range(many))
+
+
+def told_in(tree, table, ask):
+    """The answer to an ask, looked up in the documents."""
+    if ask[0] == "where":
+        bits = [holds(tree, ask[1], ask[2], piece) for piece in pieces_at(tree, ask[1], table)]
+        return told_in(tree, with_bits(tree, ask[1], table, bits), ask[3])
+    word, node = ask
+    parts = parts_at(tree, node, table)
+    if word == "count":
+        opened = node != -1 and nodes_of(tree)[node][0] in "?["
+        return sum(len(part) for part in parts) if opened else len(parts)
+    if word == "lengths":
+        return [len(part) for part in parts]
+    if word == "there":
+        return [part != () for part in parts]
+    if word == "sum":
+        return sum(parts)
+    if word == "least":
+        return min(parts, default=None)
+    if word == "greatest":
+        return max(parts, default=None)
+    return parts
+
+
+def needs_in(tree, ask):
+    """The needed nodes of an ask, the table first."""
+    def places(test):
+        if test[0] in ("some", "all"):
+            return [test[1]]
+        return [place for inner in test[1:] for place in places(inner)]
+
+    found = nodes_of(tree)
+    if ask[0] == "where":
+        return sorted(set(needs_in(tree, ask[3]) + places(ask[2])))
+    if ask[0] != "count":
+        return [-1, ask[1]]
+    line = found[ask[1]][1] if ask[1] >= 0 else []
+    return sorted({-1, max([-1] + [above for above in line if found[above][0] in "?["])})
+
+
+def random_ask(rng, tree, deep=4):
+    """An ask, not deeper than that."""
+    if deep > 1 and rng.random() < 0.5:
+        node = rng.choice(filter_nodes(tree))
+        return "where", node, random_test(rng, tree, node, 3), random_ask(rng, tree, deep - 1)
+    found = nodes_of(tree)
+    node = rng.randrange(-1, len(found))
+    if node == -1:
+        return "count", node
+    words = {"v": ["values", "sum", "least", "greatest"], "[": ["lengths"], "?": ["there"], "{": []}[found[node][0]]
+    return rng.choice(words + ["count"]), node

@@ -7,8 +7,8 @@ from levelcolumns.columns import split
 from levelcolumns.fitting import first_misfit, joined, prefix
 from levelcolumns.schemas import Schema
 from tests.samples import (DEEP, EXAMPLE, OTHER_OBJECTS, TWELVE, column_in, columns_in, leaves_of, meeting_in,
-                           mixed_columns, nodes_of, prefix_in, random_document, random_trees, redrawn, text_of,
-                           tree_of, way_in)
+                           mixed_columns, nodes_of, ordered, prefix_in, random_document, random_trees, redrawn,
+                           text_of, tree_of, way_in)
 from tests.test_columns import COLUMNS, FIRST, SECOND
 from tests.tools import Calls, fault_of, key_orders
 
@@ -24,15 +24,6 @@ def misfit_in(tree, columns):
             if one != other:
                 return leaf + 1, place
     return None
-
-
-def ordered(tree, part):
-    """The part with the names in the order of the tree."""
-    if tree[0] == "v":
-        return part
-    if tree[0] in "?[":
-        return type(part)(ordered(tree[1], inner) for inner in part)
-    return {name: ordered(below, part[name]) for name, below in tree[1]}
 
 
 class Prefixes(Calls):
