@@ -28,7 +28,7 @@ def unpacked(schema, thing):
     documents, levels, values = thing
     carried = {leaf: _zero_column(schema, leaf, tuples) for leaf, tuples in zip(carriers(schema), levels)}
     for leaf, column in carried.items():
-        if column_fault(schema, leaf, column) is not None or _count_documents(column) != documents:
+        if column_fault(schema, leaf, column) is not None:
             raise InvalidColumns(-1, -1)
     columns = []
     for leaf in range(len(schema)):
