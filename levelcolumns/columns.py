@@ -5,6 +5,9 @@ from levelcolumns.documents import check_table
 from levelcolumns.errors import InvalidColumns
 from levelcolumns.schemas import leaves_below, levels_of, line_to, open_line_to
 
+# As many as a column has where an object, a text or a live table is looked at for its size.
+MOST_ENTRIES = 400
+
 
 def column_of(schema, leaf, table):
     """The column of a leaf for a table: a list of entries (r, d, value)."""
@@ -71,17 +74,49 @@ def runs(entries, level):
     return found
 
 
+def flat(rows):
+    """The entries of several lists of entries, one list behind the other."""
+    return [entry for row in rows for entry in row]
+
+
+def list_parts(schema, node, entries):
+    """What each element of one list contributes to a column, from all entries of this list there."""
+    depth, lists = levels_of(schema, node)
+    if entries[0][1] < depth:
+        return []
+    return runs(entries, lists)
+
+
+def list_entries(schema, node, level, parts):
+    """The entries of one list with these elements, the first one with this r; one entry if it has none."""
+    depth, lists = levels_of(schema, node)
+    if parts == []:
+        return [(level, depth - 1, None)]
+    entries = []
+    for at, part in enumerate(parts):
+        _, reached, value = part[0]
+        begin = level if at == 0 else lists
+        entries.append((begin, reached, value))
+        entries.extend(part[1:])
+    return entries
+
+
+def part_entries(schema, leaf, node, part, level):
+    """The entries of a part of a document at a node, for a leaf at or below it, the first one with this r."""
+    line = line_to(schema, schema.nodes_of_leaves[leaf])
+    depth, lists = levels_of(schema, schema.parents[node])
+    entries = []
+    _add_entries(schema, line[line.index(node):], part, (level, depth, lists), entries)
+    return entries
+
+
 def assembled(schema, held):
     """The table of the cut schema for the leaves of held, a dict of fitting columns by their leaves."""
     return [_assembled_part(schema, 0, document) for document in _side_by_side(held, 0)]
 
 
 def _column(schema, leaf, table):
-    line = line_to(schema, schema.nodes_of_leaves[leaf])
-    entries = []
-    for document in table:
-        _add_entries(schema, line, document, (0, 0, 0), entries)
-    return entries
+    return flat([part_entries(schema, leaf, 0, document, 0) for document in table])
 
 
 def _add_entries(schema, line, part, levels, entries):

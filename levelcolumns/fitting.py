@@ -9,9 +9,7 @@ from levelcolumns.schemas import leaves_below, levels_of, meeting
 def prefix(schema, leaf, column, node):
     """The prefix of a column at a node at or above its leaf, or at the table (-1)."""
     check_column(schema, leaf, column)
-    check_node(schema, node, -1)
-    if leaf not in leaves_below(schema, node):
-        raise InvalidNode("a node that is not at or above the leaf")
+    check_at_or_above(schema, leaf, node)
     return prefix_at(schema, column, node)
 
 
@@ -25,6 +23,13 @@ def joined(schema, columns):
     """The table that has these columns."""
     check_fitting(schema, columns)
     return assembled(schema, {leaf: column for leaf, column in enumerate(columns)})
+
+
+def check_at_or_above(schema, leaf, node):
+    """InvalidNode unless node is one at or above the leaf, or -1."""
+    check_node(schema, node, -1)
+    if leaf not in leaves_below(schema, node):
+        raise InvalidNode("a node that is not at or above the leaf")
 
 
 def check_fitting(schema, columns):

@@ -1,6 +1,6 @@
 """Tests asked of the elements of a list or of documents, and tables filtered by them."""
 
-from levelcolumns.columns import runs
+from levelcolumns.columns import flat, list_entries, runs
 from levelcolumns.errors import InvalidMask, InvalidNode, InvalidTest
 from levelcolumns.fitting import check_fitting
 from levelcolumns.schemas import leaves_below, levels_of
@@ -129,7 +129,7 @@ def _parts_of(schema, node, column):
 def _filtered_column(schema, node, column, bits):
     """The entries of a column below the node that stay, as a filtered table has them."""
     if node < 0:
-        return [entry for run, bit in zip(runs(column, 0), bits) if bit for entry in run]
+        return flat([run for run, bit in zip(runs(column, 0), bits) if bit])
     depth, lists = levels_of(schema, node)
     entries = []
     taken = 0
@@ -139,15 +139,6 @@ def _filtered_column(schema, node, column, bits):
         else:
             parts = runs(run, lists)
             stay = [part for part, bit in zip(parts, bits[taken:taken + len(parts)]) if bit]
-            entries.extend(_list_entries(run[0][0], depth, stay))
+            entries.extend(list_entries(schema, node, run[0][0], stay))
             taken += len(parts)
     return entries
-
-
-def _list_entries(level, depth, parts):
-    """The entries of one list with these elements, the first one with this r; one entry if it has none."""
-    entries = [entry for part in parts for entry in part]
-    if entries == []:
-        return [(level, depth - 1, None)]
-    _, reached, value = entries[0]
-    return [(level, reached, value)] + entries[1:]

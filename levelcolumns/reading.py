@@ -26,6 +26,8 @@ class SchemaReader:
         self.parents = []
         self.names = []
         self.children = []
+        self.begins = []
+        self.ends = []
 
     def read_all(self):
         """Reads the one schema that the text is, or raises InvalidText."""
@@ -66,6 +68,7 @@ class SchemaReader:
             self._read_node(node, None, above + 1, open_above + 1)
         if sign == "[":
             self._take("]")
+        self.ends[node] = self.at
 
     def _add_node(self, kind, parent, name):
         node = len(self.kinds)
@@ -73,6 +76,8 @@ class SchemaReader:
         self.parents.append(parent)
         self.names.append(name)
         self.children.append([])
+        self.begins.append(self.at)
+        self.ends.append(self.at)
         if parent >= 0:
             self.children[parent].append(node)
         return node

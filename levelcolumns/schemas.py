@@ -11,8 +11,9 @@ class Schema:
 
     For the other files of the package it keeps, by the numbers of the nodes,
     their kinds, the node above each (-1 above the first), its name in the record
-    above it (None elsewhere), the nodes directly below it, the leaves at or below
-    it, its k and c, and by the numbers of the leaves their nodes.
+    above it (None elsewhere), the nodes directly below it, where it begins and ends
+    in the text, the leaves at or below it, its k and c, and by the numbers of the
+    leaves their nodes.
     """
 
     def __init__(self, text):
@@ -23,6 +24,7 @@ class Schema:
         self.parents = tuple(reader.parents)
         self.names = tuple(reader.names)
         self.children = tuple([tuple(below) for below in reader.children])
+        self.spans = tuple(zip(reader.begins, reader.ends))
         self.nodes_of_leaves = tuple([node for node, kind in enumerate(reader.kinds) if kind == "value"])
         self.leaves_of_nodes = tuple([_leaves_from(self, node) for node in range(len(reader.kinds))])
         self.levels = tuple([_count_levels(self, node) for node in range(len(reader.kinds))])

@@ -2,9 +2,20 @@
 
 import ast
 import pathlib
+import re
 import unittest
 
 PACKAGE = pathlib.Path(__file__).resolve().parent.parent / "levelcolumns"
+
+INTERFACE = {
+    "schemas": "Schema kinds leaf_nodes way_of meeting cut matching", "documents": "table_fault cut_table",
+    "columns": "column_of split column_fault table_of", "fitting": "prefix first_misfit joined",
+    "misfits": "misfits greatest_fit count_greatest suspects misfit_groups shows_groups",
+    "questions": "lowest is_enough fewest_leaves lightest_leaves parted shows_parted",
+    "packing": "carriers packed unpacked", "masks": "mask filtered", "asks": "needs_of told_of answered",
+    "edits": "put_element take_element set_maybe set_value put_document take_document stretch",
+    "evolve": "with_field cut_columns into_maybe into_list out_of", "machines": "next_leaf entries_of",
+    "counts": "count_tables"}
 
 
 class Form(unittest.TestCase):
@@ -32,12 +43,52 @@ class Form(unittest.TestCase):
                 if isinstance(part, ast.FunctionDef):
                     self.assertLessEqual(part.end_lineno - part.lineno + 1, 40, (name, part.name))
 
-    def test_imports_are_of_the_package_alone(self):
+    def test_imports_are_of_the_package_and_of_what_the_rules_name(self):
         for name, text in self.texts.items():
             for part in ast.walk(ast.parse(text)):
                 self.assertNotIsInstance(part, ast.Import, name)
+                if isinstance(part, ast.ImportFrom) and part.module == "math":
+                    self.assertEqual([alias.name for alias in part.names], ["comb"], name)
+                elif isinstance(part, ast.ImportFrom):
+                    self.assertTrue(part.module.startswith("levelcolumns."), name)
+                    self.assertTrue(part.module.replace("levelcolumns.", "") + ".py" in self.texts, name)
+
+    def test_what_is_imported_stands_in_the_file_that_is_named(self):
+        for name, text in self.texts.items():
+            for part in ast.walk(ast.parse(text)):
+                if isinstance(part, ast.ImportFrom) and part.module != "math":
+                    other = ast.parse(self.texts[part.module.replace("levelcolumns.", "") + ".py"])
+                    own = {inner.name for inner in other.body if isinstance(inner, (ast.FunctionDef, ast.ClassDef))}
+                    own |= {target.id for inner in other.body if isinstance(inner, ast.Assign)
+                            for target in inner.targets}
+                    self.assertTrue({alias.name for alias in part.names} <= own, (name, part.module))
+
+    def test_files_do_not_import_each_other_in_a_circle(self):
+        needed = {}
+        for name, text in self.texts.items():
+            needed[name] = {part.module.replace("levelcolumns.", "") + ".py" for part in ast.walk(ast.parse(text))
+                            if isinstance(part, ast.ImportFrom) and part.module != "math"}
+        while needed:
+            free = [name for name, others in needed.items() if not others & set(needed)]
+            self.assertTrue(free, sorted(needed))
+            for name in free:
+                del needed[name]
+
+    def test_no_name_of_the_package_is_left_unused(self):
+        texts = "\n".join(self.texts.values())
+        for name, text in self.texts.items():
+            for part in ast.walk(ast.parse(text)):
                 if isinstance(part, ast.ImportFrom):
-                    self.assertIn(part.module.replace("levelcolumns.", "") + ".py", self.texts, name)
+                    for alias in part.names:
+                        self.assertGreater(len(re.findall(rf"\b{alias.name}\b", text)), 1, (name, alias.name))
+                if isinstance(part, ast.FunctionDef) and part.name.startswith("_") and part.name[1] != "_":
+                    self.assertGreater(len(re.findall(rf"\b{part.name}\b", texts)), 1, (name, part.name))
+
+    def test_the_interface_is_defined_where_it_is_listed(self):
+        for name, listed in INTERFACE.items():
+            defined = [part.name for part in ast.parse(self.texts[name + ".py"]).body
+                       if isinstance(part, (ast.FunctionDef, ast.ClassDef))]
+            self.assertTrue(set(listed.split()) <= set(defined), name)
 
 
 if __name__ == "__main__":
