@@ -15,7 +15,11 @@ INTERFACE = {
     "packing": "carriers packed unpacked", "masks": "mask filtered", "asks": "needs_of told_of answered",
     "edits": "put_element take_element set_maybe set_value put_document take_document stretch",
     "evolve": "with_field cut_columns into_maybe into_list out_of", "machines": "next_leaf entries_of",
-    "counts": "count_tables"}
+    "counts": "count_tables", "pages": "page_numbers cut_pages page_state parted_pages shows_parted_pages bits_by_pages",
+    "live": "LiveTable", "texts": "write_column read_column write_test read_test", "session": "session"}
+
+METHODS = ("__init__ put_element take_element set_maybe set_value put_document take_document keep columns table ask "
+           "__len__ undo mark undo_to twin")
 
 
 class Form(unittest.TestCase):
@@ -89,6 +93,13 @@ class Form(unittest.TestCase):
             defined = [part.name for part in ast.parse(self.texts[name + ".py"]).body
                        if isinstance(part, (ast.FunctionDef, ast.ClassDef))]
             self.assertTrue(set(listed.split()) <= set(defined), name)
+
+    def test_the_methods_stand_in_the_classes_that_list_them(self):
+        for name, kind, listed in [("live", "LiveTable", METHODS), ("schemas", "Schema", "__init__ __len__ __eq__ text")]:
+            for part in ast.parse(self.texts[name + ".py"]).body:
+                if isinstance(part, ast.ClassDef) and part.name == kind:
+                    defined = [inner.name for inner in part.body if isinstance(inner, ast.FunctionDef)]
+                    self.assertTrue(set(listed.split()) <= set(defined), kind)
 
 
 if __name__ == "__main__":
