@@ -107,7 +107,7 @@ def _stretch(schema, column, node, path):
 def _nth_run(column, span, level, index):
     """The span of the run with this index, within a span that is parted at each r of at most this level."""
     begin, end = span
-    starts = [at for at in range(begin, end) if at == begin or column[at][0] <= level]
+    starts = [at for at in range(begin, end) if column[at][0] <= level]
     _check_index(index, len(starts) - 1)
     ends = starts[1:] + [end]
     return starts[index], ends[index]

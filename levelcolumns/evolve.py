@@ -1,6 +1,6 @@
 """Changes of a schema, and of the columns with it."""
 
-from levelcolumns.checks import check_leaves, check_node
+from levelcolumns.checks import check_node
 from levelcolumns.errors import InvalidField, InvalidNode, InvalidText, NotSingle, TooLarge
 from levelcolumns.fitting import check_fitting, prefix_at
 from levelcolumns.reading import MOST_LETTERS
@@ -28,8 +28,8 @@ def with_field(schema, columns, node, name, text):
 def cut_columns(schema, columns, leaves):
     """(schema, columns) of these leaves alone."""
     check_fitting(schema, columns)
-    check_leaves(schema, leaves)
-    return cut(schema, leaves), [list(columns[leaf]) for leaf in leaves]
+    narrower = cut(schema, leaves)
+    return narrower, [list(columns[leaf]) for leaf in leaves]
 
 
 def into_maybe(schema, columns, node):
